@@ -1,0 +1,1 @@
+"""Broken inscriptions, and all texts that can stand on them."""
