@@ -21,7 +21,44 @@ INTERFACE = {
         "row_steps": ["wear", "text", "row"], "worn_by": ["wear", "text", "deeds"],
         "shortest_wear": ["wear", "text", "row"],
     },
+    "books": {
+        "is_book": ["thing"], "room_after": ["book", "text"], "is_of": ["book", "text"], "count_of": ["book", "count"],
+        "nth_of": ["book", "count", "number"], "number_of": ["book", "text"], "next_of": ["book", "text"],
+    },
+    "bookways": {
+        "books_apart": ["book", "other"], "least_book": ["book"], "both_books": ["book", "other"],
+        "either_book": ["book", "other"], "shortest_of": ["book"], "lengths_of": ["book"],
+    },
+    "lines": {
+        "wrapped": ["text", "width"], "dittoed": ["lines"], "undittoed": ["lines"], "text_of": ["lines"],
+        "carved": ["text", "width"], "least_carving": ["text"], "alike_widths": ["text"], "lines_known": ["lines"],
+    },
+    "readings": {
+        "count_readings": ["book", "wear", "row"], "readings": ["book", "wear", "row"],
+        "nth_reading": ["book", "wear", "row", "number"], "reading_number": ["book", "wear", "row", "text"],
+        "possible_signs": ["book", "wear", "row"], "sure_signs": ["book", "wear", "row"],
+        "least_worn": ["book", "wear", "row"], "count_within": ["book", "wear", "row", "count"],
+        "steps_told": ["book", "wear", "row"], "best_look": ["book", "wear", "row"],
+        "sure_within": ["book", "wear", "row", "count"],
+    },
+    "papers": {
+        "reading_paper": ["book", "wear", "row"],
+        "reading_paper_holds": ["book", "wear", "row", "number", "thing"],
+    },
+    "alike": {
+        "least_alike": ["book", "wear"], "alike_texts": ["book", "wear"],
+        "alike_holds": ["book", "wear", "most", "thing"], "safe_paper": ["book", "wear"],
+        "safe_paper_holds": ["book", "wear", "most", "thing"], "pairs_alike": ["book", "wear", "count", "most"],
+        "row_apart": ["book", "other", "wear"],
+    },
+    "doubts": {
+        "best_cuts": ["book", "wear"], "enough_cuts": ["book", "wear"], "first_cuts": ["book", "wear"],
+        "doubt": ["book", "wear", "text"], "doubt_row": ["book", "wear", "text"], "weakest": ["book", "wear", "count"],
+    },
 }
+
+# What may be imported from elsewhere.
+LIBRARY = {"heapq": ["heappop", "heappush"]}
 
 BUILTINS = """len range enumerate zip min max sum abs sorted reversed int str bool list tuple dict set isinstance ord
 repr any all divmod super ValueError KeyError IndexError""".split()
@@ -78,8 +115,32 @@ class LanguageTest(unittest.TestCase):
                     self.assertNotIsInstance(node, ast.Import)
                     if isinstance(node, ast.ImportFrom):
                         self.assertEqual(node.level, 0)
-                        self.assertTrue(node.module.startswith("wornstones."))
-                        self.assertNotIn("*", [alias.name for alias in node.names])
+                        names = [alias.name for alias in node.names]
+                        self.assertEqual([alias.asname for alias in node.names], [None] * len(names))
+                        if node.module in LIBRARY:
+                            self.assertEqual([word for word in names if word not in LIBRARY[node.module]], [])
+                        else:
+                            self.assertTrue(node.module.startswith("wornstones."))
+                            self.check_defined(node.module, names)
+
+    def check_defined(self, module, names):
+        """Each name is imported from the very file in which it is defined."""
+        source = sources()[module.split(".")[1] + ".py"]
+        told = [node.name for node in ast.parse(source).body if isinstance(node, (ast.FunctionDef, ast.ClassDef))]
+        for node in ast.parse(source).body:
+            if isinstance(node, ast.Assign):
+                told += [target.id for target in node.targets]
+        self.assertEqual([name for name in names if name not in told], [])
+
+    def test_no_files_import_each_other(self):
+        needs = {}
+        for name, source in sources().items():
+            needs[name] = {node.module.split(".")[1] + ".py" for node in ast.walk(ast.parse(source))
+                           if isinstance(node, ast.ImportFrom) and node.module not in LIBRARY}
+        for _ in needs:
+            needs = {name: some.union(*[needs[other] for other in some]) for name, some in needs.items()}
+        for name, some in needs.items():
+            self.assertNotIn(name, some)
 
     def test_builtins(self):
         barred = set(dir(builtins)) - set(BUILTINS)

@@ -4,7 +4,7 @@ Each of the is_.. functions takes any object; each of the need_.. functions
 raises the error of its kind for an object that is none.
 """
 
-from wornstones.errors import BadRow, BadSign, BadText
+from wornstones.errors import BadCount, BadNumber, BadRow, BadSign, BadText
 
 SIGNS = ("a", "b", "c", "d", "e", "f")
 WORN_SIGNS = (".", "a", "b", "c", "d", "e", "f")
@@ -74,3 +74,15 @@ def need_row(thing):
     """Raise BadRow for what is no row."""
     if not is_row(thing):
         raise BadRow("a row is a str of at most 24 seen signs")
+
+
+def need_count(thing, least, most):
+    """Raise BadCount for what is no integer from least to most."""
+    if not is_integer(thing) or not least <= thing <= most:
+        raise BadCount(f"an integer from {least} to {most} is asked")
+
+
+def need_number(thing, many):
+    """Raise BadNumber for what is no integer from 0 to below many."""
+    if not is_integer(thing) or not 0 <= thing < many:
+        raise BadNumber(f"an integer from 0 to below {many} is asked")

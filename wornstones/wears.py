@@ -82,8 +82,11 @@ def common(wear, one, other):
     need_wear(wear)
     need_sign(one)
     need_sign(other)
-    first = steps_from(wear, one)
-    second = steps_from(wear, other)
+    return least_common(steps_from(wear, one), steps_from(wear, other))
+
+
+def least_common(first, second):
+    """What common tells, by what steps_from tells for each of the two signs."""
     sums = [(first[worn] + second[worn], worn) for worn in first if worn in second]
     return min(sums, default=None)
 
