@@ -1,4 +1,4 @@
-"""Point 38: the example of the document, by the functions that are built."""
+"""Point 38: the example of the document."""
 
 import unittest
 
@@ -6,9 +6,13 @@ from tests.plain import BOOK, plain_texts, told
 from tests.things import EXAMPLE
 from wornstones.alike import alike_holds, least_alike, safe_paper, safe_paper_holds
 from wornstones.books import is_book, is_of
+from wornstones.desk import Desk
 from wornstones.doubts import best_cuts, enough_cuts, first_cuts
+from wornstones.finds import Finds
+from wornstones.looks import answer_paper, look_plan, looks_needed, plan_looks
 from wornstones.papers import reading_paper, reading_paper_holds
 from wornstones.readings import count_readings, least_worn, readings
+from wornstones.texts import show_book, show_wear
 from wornstones.wears import common, cut_deeper, is_wear, steps
 
 
@@ -42,6 +46,21 @@ class ExampleTest(unittest.TestCase):
         both = cut_deeper(cut_deeper(EXAMPLE, "b"), "c")
         self.assertEqual([common(both, one, other) for one, other in ("ab", "ac", "bc")], [None] * 3)
         self.assertIsNone(least_alike(BOOK, both))
+
+    def test_two_looks_settle_the_lot(self):
+        lot = readings(BOOK, EXAMPLE, "a.")
+        self.assertEqual(told(looks_needed, lot), 2)
+        self.assertEqual(told(plan_looks, lot, look_plan(lot)), 2)
+        self.assertIsNone(told(answer_paper, lot, 2))
+        finds = Finds(BOOK, EXAMPLE)
+        finds.find("a.")
+        self.assertEqual(finds.needed(), 2)
+        self.assertEqual(finds.readings(), lot)
+
+    def test_at_the_desk(self):
+        desk = Desk()
+        said = [f"book {show_book(BOOK)}", f"wear {show_wear(EXAMPLE)}", "find a.", "count", "least", "alike", "cuts", "needed"]
+        self.assertEqual([desk.say(row) for row in said], ["ok", "ok", "ok", "4", "1 aa", "1", "abcdef", "2"])
 
 
 if __name__ == "__main__":

@@ -55,13 +55,57 @@ INTERFACE = {
         "best_cuts": ["book", "wear"], "enough_cuts": ["book", "wear"], "first_cuts": ["book", "wear"],
         "doubt": ["book", "wear", "text"], "doubt_row": ["book", "wear", "text"], "weakest": ["book", "wear", "count"],
     },
+    "stones": {
+        "stone_rows": ["stone"], "stone_counts": ["book", "wear", "stone"], "stone_widths": ["book", "wear", "stone"],
+        "first_stone": ["book", "wear", "stone"], "sure_lines": ["book", "wear", "stone"],
+        "least_stone": ["book", "wear", "stone"],
+    },
+    "pieces": {
+        "all_layings": ["size", "pieces"], "layings": ["book", "wear", "size", "pieces"],
+        "laying_counts": ["book", "wear", "size", "pieces"], "sure_laying": ["book", "wear", "size", "pieces"],
+        "sure_page": ["book", "wear", "size", "pieces"], "telling_pieces": ["book", "wear", "size", "pieces"],
+    },
+    "copies": {
+        "place_signs": ["wear", "column"], "place_steps": ["wear", "parents", "column", "sign"],
+        "copies_count": ["book", "wear", "rows"], "copies_readings": ["book", "wear", "rows"],
+        "copies_sure": ["book", "wear", "rows"], "copies_least": ["book", "wear", "parents", "rows"],
+        "copies_within": ["book", "wear", "parents", "rows", "count"],
+        "sign_steps": ["book", "wear", "parents", "rows", "place"], "needless_copies": ["book", "wear", "rows"],
+        "best_parents": ["book", "wear", "rows"], "parents_apart": ["wear", "parents", "other"],
+    },
+    "looks": {
+        "looks_needed": ["lot"], "look_plan": ["lot"], "plan_looks": ["lot", "thing"], "first_places": ["lot"],
+        "answer_paper": ["lot", "count"], "answers_hold": ["lot", "count", "thing"], "fewest_places": ["lot"],
+        "place_set": ["lot"], "looks_for": ["lot", "place"],
+    },
+    "years": {
+        "years_sure": ["book", "wear", "text", "speed"], "guarded_years": ["book", "wear", "text", "speed", "cuts"],
+        "guard_way": ["book", "wear", "text", "speed", "cuts"],
+        "guard_holds": ["book", "wear", "text", "speed", "cuts", "thing"],
+        "wear_way": ["book", "wear", "text", "speed", "cuts", "number"],
+        "wear_holds": ["book", "wear", "text", "speed", "cuts", "number", "thing"],
+    },
+    "texts": {
+        "show_wear": ["wear"], "show_book": ["book"], "show_row": ["row"], "read_wear": ["text"], "read_book": ["text"],
+        "read_row": ["text"], "read_text": ["text"],
+    },
+}
+
+CLASSES = {
+    "finds": {"Finds": {
+        "__init__": ["self", "book", "wear"], "find": ["self", "row", "parent"], "look": ["self", "place", "sign"],
+        "undo": ["self"], "rows": ["self"], "parents": ["self"], "looks": ["self"], "count": ["self"],
+        "readings": ["self"], "sure": ["self"], "least": ["self"], "needed": ["self"], "copy": ["self"],
+        "try_places": ["self"], "__len__": ["self"], "__iter__": ["self"],
+    }},
+    "desk": {"Desk": {"__init__": ["self"], "say": ["self", "row"], "finds": ["self"]}},
 }
 
 # What may be imported from elsewhere.
 LIBRARY = {"heapq": ["heappop", "heappush"]}
 
 BUILTINS = """len range enumerate zip min max sum abs sorted reversed int str bool list tuple dict set isinstance ord
-repr any all divmod super ValueError KeyError IndexError""".split()
+repr any all divmod super iter property ValueError KeyError IndexError""".split()
 
 
 def sources():
@@ -87,6 +131,17 @@ class InterfaceTest(unittest.TestCase):
                     self.assertEqual(function.__module__, "wornstones." + module)
                     self.assertEqual(list(inspect.signature(function).parameters), arguments)
 
+    def test_classes(self):
+        for module, classes in CLASSES.items():
+            held = importlib.import_module("wornstones." + module)
+            for name, methods in classes.items():
+                kind = getattr(held, name)
+                self.assertEqual(kind.__module__, "wornstones." + module)
+                for method, arguments in methods.items():
+                    with self.subTest(name=name, method=method):
+                        # Each one is defined in the class itself.
+                        self.assertEqual(list(inspect.signature(vars(kind)[method]).parameters), arguments)
+
 
 class LanguageTest(unittest.TestCase):
     def test_only_python_files(self):
@@ -106,7 +161,7 @@ class LanguageTest(unittest.TestCase):
                 if isinstance(node, ast.FunctionDef):
                     with self.subTest(name=name, function=node.name):
                         self.assertLessEqual(node.end_lineno - node.lineno + 1, 40)
-                        self.assertEqual(node.decorator_list, [])
+                        self.assertIn([ast.unparse(one) for one in node.decorator_list], ([], ["property"]))
 
     def test_imports(self):
         for name, source in sources().items():
@@ -149,6 +204,28 @@ class LanguageTest(unittest.TestCase):
                 if isinstance(node, ast.Name):
                     with self.subTest(name=name, word=node.id):
                         self.assertNotIn(node.id, barred)
+
+    def test_statements(self):
+        # A class is compared and iterated over, so all lists are made ahead of any, all, sum and the like.
+        barred = (ast.GeneratorExp, ast.Yield, ast.YieldFrom, ast.Lambda, ast.With, ast.Global, ast.Nonlocal, ast.Try)
+        for name, source in sources().items():
+            for node in ast.walk(ast.parse(source)):
+                with self.subTest(name=name, line=getattr(node, "lineno", 0)):
+                    self.assertNotIsInstance(node, barred)
+
+    def test_no_name_of_an_import_is_bound_again(self):
+        for name, source in sources().items():
+            tree = ast.parse(source)
+            taken = [alias.name for node in ast.walk(tree) if isinstance(node, ast.ImportFrom) for alias in node.names]
+            taken += [node.name for node in tree.body if isinstance(node, ast.ClassDef)]
+            bound = [node.arg for node in ast.walk(tree) if isinstance(node, ast.arg)]
+            bound += [node.id for node in ast.walk(tree) if isinstance(node, ast.Name) and isinstance(node.ctx, ast.Store)]
+            bound += [node.name for node in ast.walk(tree) if isinstance(node, ast.FunctionDef)]
+            used = {node.id for node in ast.walk(tree) if isinstance(node, ast.Name)}
+            with self.subTest(name=name):
+                self.assertEqual(sorted(set(taken) & set(bound)), [])
+                self.assertEqual(sorted(set(taken) - used - {node.name for node in tree.body
+                                                             if isinstance(node, ast.ClassDef)}), [])
 
     def test_integers_alone(self):
         for name, source in sources().items():

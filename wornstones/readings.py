@@ -42,10 +42,14 @@ def count_readings(book, wear, row):
 def readings(book, wear, row):
     """The list, ascending, of the readings of a row."""
     need_three(book, wear, row)
-    costs = costs_of(wear, row)
+    return texts_told(book, costs_of(wear, row))
+
+
+def texts_told(book, costs):
+    """The list, ascending, of all texts along the costs, TooMany if they are more than can be told."""
     numbers = numbers_along(book, costs)
     if numbers[0][0] > MOST_READINGS:
-        raise TooMany("the row has more than four hundred readings")
+        raise TooMany("there are more than four hundred texts")
     return texts_along(book, costs, numbers)
 
 
@@ -99,7 +103,11 @@ def possible_signs(book, wear, row):
 def sure_signs(book, wear, row):
     """The signs that all readings have, a question mark where they have several, or None."""
     need_three(book, wear, row)
-    costs = costs_of(wear, row)
+    return sure_along(book, costs_of(wear, row))
+
+
+def sure_along(book, costs):
+    """What sure_signs tells, of all texts along the costs."""
     if numbers_along(book, costs)[0][0] == 0:
         return None
     return signs_in_common(numbers_by_sign(book, costs))
@@ -130,7 +138,11 @@ def least_along(book, costs):
 def least_worn(book, wear, row):
     """A tuple of the least row_steps of a reading, and the first such reading, or None."""
     need_three(book, wear, row)
-    costs = costs_of(wear, row)
+    return least_text(book, costs_of(wear, row))
+
+
+def least_text(book, costs):
+    """What least_worn tells, of all texts along the costs."""
     sums = least_along(book, costs)
     if 0 not in sums[0]:
         return None
@@ -169,8 +181,12 @@ def count_within(book, wear, row, count):
     """How many readings have at most so many row_steps."""
     need_three(book, wear, row)
     need_count(count, 0, MOST_STEPS)
-    numbers = numbers_by_steps(book, costs_of(wear, row))
-    return sum([many for total, many in numbers.items() if total <= count])
+    return number_within(book, costs_of(wear, row), count)
+
+
+def number_within(book, costs, count):
+    """What count_within tells, of all texts along the costs."""
+    return sum([many for total, many in numbers_by_steps(book, costs).items() if total <= count])
 
 
 def steps_told(book, wear, row):
@@ -182,7 +198,11 @@ def steps_told(book, wear, row):
 def best_look(book, wear, row):
     """The list, ascending, of the places with which a look leaves the fewest readings in the worst case."""
     need_three(book, wear, row)
-    costs = costs_of(wear, row)
+    return best_places(book, costs_of(wear, row))
+
+
+def best_places(book, costs):
+    """What best_look tells, of all texts along the costs."""
     if numbers_along(book, costs)[0][0] <= 1:
         return []
     worst = [max(list(told.values())) for told in numbers_by_sign(book, costs)]
