@@ -195,7 +195,7 @@ def numbers_by_sums(book, commons, count, most):
     ahead = {(0, 0): [1] + [0] * most}
     for _ in range(count):
         after = {}
-        for (room, other), told in ahead.items():
+        for (room, other), told in list(ahead.items()):
             for state, many, _ in ways_on(doors, commons, (room, other, False)):
                 numbers = after.setdefault(state[:2], [0] * (most + 1))
                 numbers[many:] = [one + more for one, more in zip(numbers[many:], told)]
@@ -239,7 +239,7 @@ def pairs_of_sets(first, second):
     wave = [((0,), (0,))]
     while wave:
         further = []
-        for pair in wave:
+        for pair in list(wave):
             for worn in WORN_SIGNS:
                 after = (rooms_behind(first, pair[0], worn), rooms_behind(second, pair[1], worn))
                 if after not in found:

@@ -27,7 +27,7 @@ def pairs_behind(book, other):
     wave = [(0, 0)]
     while wave:
         further = []
-        for pair in wave:
+        for pair in list(wave):
             for sign, behind in doors_of_pair(first, second, pair).items():
                 if behind not in found:
                     found[behind] = found[pair] + sign
@@ -105,7 +105,7 @@ def rooms_to_ends(doors, ends):
     wave = list(found)
     while wave:
         further = []
-        for room in wave:
+        for room in list(wave):
             for before in ahead[room]:
                 if before not in found:
                     found[before] = True

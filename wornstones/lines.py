@@ -115,7 +115,7 @@ def lines_known(lines):
     row = ""
     width = len(lines[0]) if lines else 0
     for sign in "".join(lines):
-        row += row[len(row) - width] if sign == DITTO else sign
+        row = row + (row[len(row) - width] if sign == DITTO else sign)
     return row
 
 

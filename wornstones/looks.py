@@ -67,7 +67,7 @@ def sets_that_come(lot, columns):
     wave = list(found)
     while wave:
         further = []
-        for some in wave:
+        for some in list(wave):
             for column in columns:
                 for part in parts_of(column, some):
                     if are_several(part) and part not in found:

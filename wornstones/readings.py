@@ -84,7 +84,7 @@ def numbers_by_sign(book, costs):
     for some, further in zip(costs, numbers[1:]):
         told = {}
         after = {}
-        for room, many in ahead.items():
+        for room, many in list(ahead.items()):
             for sign, behind in doors[room].items():
                 if sign in some and further[behind]:
                     told[sign] = told.get(sign, 0) + many * further[behind]
@@ -164,7 +164,7 @@ def numbers_by_steps(book, costs):
     ahead = {(0, 0): 1}
     for some in costs:
         after = {}
-        for (room, total), many in ahead.items():
+        for (room, total), many in list(ahead.items()):
             for sign, behind in doors[room].items():
                 if sign in some:
                     state = (behind, total + some[sign])
@@ -230,7 +230,7 @@ def signs_within(book, costs, sums, most):
     for some, further in zip(costs, sums[1:]):
         told = {}
         after = {}
-        for room, total in ahead.items():
+        for room, total in list(ahead.items()):
             for sign, behind in doors[room].items():
                 if sign in some and behind in further and total + some[sign] + further[behind] <= most:
                     told[sign] = True

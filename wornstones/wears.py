@@ -37,7 +37,7 @@ def steps_from(wear, one):
     wave = [one]
     while wave:
         behind = []
-        for sign in wave:
+        for sign in list(wave):
             for first, worn in wear:
                 if first == sign and worn not in found:
                     found[worn] = found[sign] + 1

@@ -99,7 +99,7 @@ def rows_in_year(wears_on, row, speed):
     wave = [row]
     for _ in range(speed):
         further = []
-        for ahead in wave:
+        for ahead in list(wave):
             for after in wears_on[ahead]:
                 if after not in wears_on:
                     return [after]
@@ -230,7 +230,7 @@ def wear_way(book, wear, text, speed, cuts, number):
     wave = [(text, number)]
     while wave:
         further = []
-        for row, left in wave:
+        for row, left in list(wave):
             if (row, left) not in way:
                 way[(row, left)] = worst_row(held, behind, years[row])
                 # What is not sure ends it, and has no rows that are cut.
